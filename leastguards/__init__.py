@@ -1,0 +1,1 @@
+"""Leastguards: the least guards that keep wanted runs possible."""

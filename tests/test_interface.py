@@ -1,0 +1,61 @@
+"""Each name of the interface stands in its file, and each listed method in its class itself."""
+
+import importlib
+import inspect
+import unittest
+
+CLASSES = {
+    "leastguards.plants": {
+        "Plant": ["__init__", "__eq__", "start", "steps", "words", "wanted", "barred", "states",
+                  "giving_up"],
+    },
+    "leastguards.views": {
+        "View": ["__init__", "__eq__", "__getitem__", "__setitem__", "__contains__", "__len__",
+                 "__or__", "__ror__", "__ior__", "__sub__", "__isub__", "words", "sights", "holds",
+                 "hold_just", "copy"],
+    },
+}
+PROPERTIES = {
+    ("leastguards.plants", "Plant"): ["start", "steps", "words", "wanted", "barred", "states"],
+    ("leastguards.views", "View"): ["words", "sights", "holds"],
+}
+PARAMETERS = {
+    ("leastguards.plants", "Plant"): "(start, steps, wanted, barred=())",
+    ("leastguards.views", "View"): "(sights=None, holds=())",
+    ("leastguards.views", "seeing"): "(words, holds=())",
+}
+
+
+def named(module, name):
+    return getattr(importlib.import_module(module), name)
+
+
+class InterfaceTest(unittest.TestCase):
+    def test_methods_stand_in_their_class(self):
+        for module, classes in CLASSES.items():
+            for name, methods in classes.items():
+                self.assertEqual(named(module, name).__module__, module)
+                for method in methods:
+                    self.assertIn(method, vars(named(module, name)), name)
+
+    def test_properties(self):
+        for (module, name), properties in PROPERTIES.items():
+            for told in properties:
+                self.assertIsInstance(vars(named(module, name))[told], property, told)
+
+    def test_only_holds_can_be_set(self):
+        for (module, name), properties in PROPERTIES.items():
+            for told in properties:
+                settable = vars(named(module, name))[told].fset is not None
+                self.assertEqual(settable, told == "holds", told)
+
+    def test_parameters(self):
+        for (module, name), parameters in PARAMETERS.items():
+            self.assertEqual(str(inspect.signature(named(module, name))), parameters)
+
+    def test_seeing_stands_in_views(self):
+        self.assertEqual(named("leastguards.views", "seeing").__module__, "leastguards.views")
+
+
+if __name__ == "__main__":
+    unittest.main()
