@@ -29,6 +29,11 @@ def is_state(thing):
     return is_integer(thing) and 0 <= thing <= LAST_STATE
 
 
+def is_index(thing, size):
+    """True for an integer that is the number of one of so many things, counted from 0."""
+    return is_integer(thing) and 0 <= thing < size
+
+
 def is_row(thing):
     """True for a list or a tuple."""
     return isinstance(thing, (list, tuple))

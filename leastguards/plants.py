@@ -51,15 +51,25 @@ def without(numbers, gone):
     return [number for number in numbers if number not in gone]
 
 
-def states_from(start, steps):
-    """The ascending list of the states that any steps reach from the start."""
-    reached = [start]
-    done = 0
-    while done < len(reached):
-        for step in steps:
-            if step[0] == reached[done] and step[2] not in reached:
-                reached.append(step[2])
-        done += 1
+def targets_by_state(steps):
+    """The targets of the steps in a list for each state where some of the steps begin."""
+    targets = {}
+    for step in steps:
+        targets.setdefault(step[0], []).append(step[2])
+    return targets
+
+
+def states_from(states, steps):
+    """The ascending list of the states that the steps reach from these, themselves included."""
+    targets = targets_by_state(steps)
+    reached = {state: True for state in states}
+    waiting = list(reached)
+    while waiting:
+        state = waiting.pop()
+        for target in targets.get(state, []):
+            if target not in reached:
+                reached[target] = True
+                waiting.append(target)
     return sorted(reached)
 
 
@@ -80,7 +90,7 @@ class Plant:
         self.word_list = words_of(steps)
         self.wanted_list = sorted(wanted)
         self.barred_list = sorted(barred)
-        self.state_list = states_from(start, steps)
+        self.state_list = states_from([start], steps)
 
     def __eq__(self, other):
         return (isinstance(other, Plant) and self.start_state == other.start_state

@@ -1,5 +1,6 @@
 """What several tests need: objects of all kinds, and a check of an error and its attribute."""
 
+from leastguards.guards import Guard
 from leastguards.plants import Plant
 from leastguards.views import View
 
@@ -27,6 +28,24 @@ def sample_plant():
 def sample_view():
     """The view of the examples in the document's interface."""
     return View({"go": "g", "up": "u"}, ["up"])
+
+
+def sample_guard():
+    """The least guard of the examples in the document's interface."""
+    return Guard(sample_view(), {(0, "g"): 1, (1, "g"): 1, (1, "u"): 0}, [["up"], []])
+
+
+def ring_guard(size, sight="go", words=("go", "hop")):
+    """A guard that goes round so many nodes by one sight, and holds "up" at the last node."""
+    view = View({word: word for word in words}, ["up"])
+    moves = {(node, sight): (node + 1) % size for node in range(size)}
+    return Guard(view, moves, [[]] * (size - 1) + [["up"]])
+
+
+def lane_guard(size, sight="go", words=("go", "hop")):
+    """A guard that goes along so many nodes by one sight, and holds nothing at nodes."""
+    view = View({word: word for word in words}, ["up"])
+    return Guard(view, {(node, sight): node + 1 for node in range(size - 1)}, [[]] * size)
 
 
 def deep_list():
@@ -79,6 +98,17 @@ def rows_and_dicts():
         DEEP_TUPLE, DEEP_DICT, [DEEP_TUPLE], (DEEP_LIST,), {"go": DEEP_LIST}, looped_list(),
         {deep_tuple(KEY_DEPTH): "go"},
     ]
+
+
+def all_things():
+    """Objects of all kinds that [6] names."""
+    things = ["", "go", 0, 1, -1, 10 ** 6000, sample_guard()]
+    return things + plain_things() + rows_and_dicts()
+
+
+def no_guards():
+    """Objects that are not guards."""
+    return [thing for thing in all_things() if not isinstance(thing, Guard)]
 
 
 def no_names():

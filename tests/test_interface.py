@@ -14,15 +14,32 @@ CLASSES = {
                  "__or__", "__ror__", "__ior__", "__sub__", "__isub__", "words", "sights", "holds",
                  "hold_just", "copy"],
     },
+    "leastguards.guards": {
+        "Guard": ["__init__", "__eq__", "__call__", "__and__", "__or__", "node_after", "view",
+                  "size", "moves", "held", "smallest", "within", "apart"],
+    },
 }
 PROPERTIES = {
     ("leastguards.plants", "Plant"): ["start", "steps", "words", "wanted", "barred", "states"],
     ("leastguards.views", "View"): ["words", "sights", "holds"],
+    ("leastguards.guards", "Guard"): ["view", "size", "moves", "held"],
 }
 PARAMETERS = {
     ("leastguards.plants", "Plant"): "(start, steps, wanted, barred=())",
     ("leastguards.views", "View"): "(sights=None, holds=())",
     ("leastguards.views", "seeing"): "(words, holds=())",
+    ("leastguards.runs", "end_of"): "(plant, run)",
+    ("leastguards.runs", "is_wanted"): "(plant, run)",
+    ("leastguards.runs", "sights_of"): "(plant, view, run)",
+    ("leastguards.runs", "alike"): "(plant, view, one, other)",
+    ("leastguards.runs", "wanted_ends"): "(plant, view, sights)",
+    ("leastguards.guards", "Guard"): "(view, moves, held)",
+    ("leastguards.guards", "least_guard"): "(plant, view)",
+    ("leastguards.letting", "first_held"): "(plant, guards, run)",
+    ("leastguards.letting", "lets"): "(plant, guards, run)",
+    ("leastguards.letting", "shortest_let"): "(plant, guards, number)",
+    ("leastguards.letting", "let_more"): "(plant, guards, others)",
+    ("leastguards.letting", "stuck"): "(plant, guards)",
 }
 
 
@@ -53,8 +70,16 @@ class InterfaceTest(unittest.TestCase):
         for (module, name), parameters in PARAMETERS.items():
             self.assertEqual(str(inspect.signature(named(module, name))), parameters)
 
-    def test_seeing_stands_in_views(self):
-        self.assertEqual(named("leastguards.views", "seeing").__module__, "leastguards.views")
+    def test_each_name_is_defined_in_its_file(self):
+        for module, name in PARAMETERS:
+            self.assertEqual(named(module, name).__module__, module, name)
+
+    def test_parameters_of_guards(self):
+        guard = named("leastguards.guards", "Guard")
+        for name, parameters in (("__call__", "(self, sights)"), ("node_after", "(self, sights)"),
+                                 ("smallest", "(self)"), ("within", "(self, other)"),
+                                 ("apart", "(self, other)")):
+            self.assertEqual(str(inspect.signature(vars(guard)[name])), parameters)
 
 
 if __name__ == "__main__":

@@ -2,7 +2,7 @@
 
 import unittest
 
-from leastguards.kinds import is_integer, is_name, is_row, is_state
+from leastguards.kinds import is_index, is_integer, is_name, is_row, is_state
 from tests.helper import no_integers, no_names, no_rows
 
 
@@ -12,6 +12,13 @@ class KindsTest(unittest.TestCase):
             self.assertIs(is_integer(thing), True)
         for thing in no_integers():
             self.assertIs(is_integer(thing), False)
+
+    def test_numbers_of_things(self):
+        for thing in (0, 1, 2):
+            self.assertIs(is_index(thing, 3), True)
+        for thing in [-1, 3, 4, 10 ** 6000] + no_integers():
+            self.assertIs(is_index(thing, 3), False)
+        self.assertIs(is_index(0, 0), False)
 
     def test_names(self):
         for thing in ("a", "z", "go", "abcdefghijkl", "mnopqrstuvwx", "yz", "zzzzzzzzzzzz"):

@@ -125,6 +125,35 @@ class LanguageTest(unittest.TestCase):
                     self.assertRegex(ast.unparse(mark),
                                      r"^(property|staticmethod|classmethod|[a-z_]+\.setter)$")
 
+    def test_no_generator_expressions(self):
+        # With classes that have operators, any, all and their like take a list.
+        for text in TEXTS.values():
+            self.assertEqual(nodes(text, ast.GeneratorExp), [])
+
+    def test_no_name_is_a_method_and_an_attribute(self):
+        methods, attributes = set(), set()
+        for text in TEXTS.values():
+            for told in nodes(text, ast.ClassDef):
+                methods |= {node.name for node in told.body if isinstance(node, ast.FunctionDef)}
+            attributes |= {node.attr for node in nodes(text, ast.Attribute)
+                           if isinstance(node.ctx, ast.Store)}
+        self.assertEqual(methods & attributes, set())
+
+    def test_imports_name_the_file_that_defines_the_name(self):
+        for text in TEXTS.values():
+            for node in nodes(text, ast.ImportFrom):
+                source = TEXTS[node.module.split(".")[1] + ".py"]
+                defined = {inner.name for inner in nodes(source, ast.FunctionDef, ast.ClassDef)}
+                self.assertLessEqual({alias.name for alias in node.names}, defined)
+
+    def test_no_local_name_is_an_import_or_a_class(self):
+        for text in TEXTS.values():
+            taken = {alias.name for node in nodes(text, ast.ImportFrom) for alias in node.names}
+            taken |= {node.name for node in nodes(text, ast.ClassDef)}
+            local = {node.id for node in nodes(text, ast.Name) if isinstance(node.ctx, ast.Store)}
+            local |= {node.arg for node in nodes(text, ast.arg)}
+            self.assertEqual(taken & local, set())
+
     def test_is_only_with_constants(self):
         for text in TEXTS.values():
             for node in nodes(text, ast.Compare):
