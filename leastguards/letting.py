@@ -6,6 +6,7 @@ A spot is a tuple (state, place of each guard). A place is the number of a node,
 from leastguards.errors import BadEntry, BadGuards, TooMany
 from leastguards.guards import Guard
 from leastguards.kinds import is_index, is_row
+from leastguards.plants import numbers_by_state
 from leastguards.runs import steps_of
 from leastguards.tables import path_to
 
@@ -37,16 +38,11 @@ def places_after(guards, places, word):
     return [guard.place_after(place, word) for guard, place in zip(guards, places)]
 
 
-def numbers_by_state(steps):
-    """The numbers of the steps in an ascending list for each state where some begin."""
-    leaving = {}
-    for number, step in enumerate(steps):
-        leaving.setdefault(step[0], []).append(number)
-    return leaving
+def met_spots(plant, guards, most):
+    """The spots to which let runs lead, for path_to, in the order of their shortest, least runs.
 
-
-def met_spots(plant, guards):
-    """The spots to which let runs lead, for path_to, in the order of their shortest, least runs."""
+    TooMany is raised if there are more spots than most.
+    """
     steps = plant.steps
     leaving = numbers_by_state(steps)
     places = first_places(guards)
@@ -63,10 +59,26 @@ def met_spots(plant, guards):
             if spot not in met and not is_held(guards, places, word):
                 met[spot] = (queue[done], number)
                 queue.append(spot)
-        if len(queue) > MOST_SPOTS:
-            raise TooMany(MOST_SPOTS)
+        if len(queue) > most:
+            raise TooMany(most)
         done += 1
     return met
+
+
+def shortest_of(plant, guards, numbers, most):
+    """The shortest, then least, let run whose last step has one of the ascending numbers, or None.
+
+    TooMany is raised if let runs lead to more spots than most.
+    """
+    steps = plant.steps
+    met = met_spots(plant, guards, most)
+    for spot in met:
+        for number in numbers:
+            step = steps[number]
+            if spot[0] == step[0] and not is_held(guards, spot[1:], step[1]):
+                path = path_to(met, spot)
+                return (*path, number)
+    return None
 
 
 def first_held(plant, guards, run):
@@ -88,16 +100,9 @@ def lets(plant, guards, run):
 def shortest_let(plant, guards, number):
     """The shortest, then least, let run whose last step has this number, or None."""
     check_guards(guards)
-    steps = plant.steps
-    if not is_index(number, len(steps)):
+    if not is_index(number, len(plant.steps)):
         raise BadEntry(number)
-    step = steps[number]
-    met = met_spots(plant, guards)
-    for spot in met:
-        if spot[0] == step[0] and not is_held(guards, spot[1:], step[1]):
-            path = path_to(met, spot)
-            return (*path, number)
-    return None
+    return shortest_of(plant, guards, [number], MOST_SPOTS)
 
 
 def let_more(plant, guards, others):
@@ -107,7 +112,7 @@ def let_more(plant, guards, others):
     steps = plant.steps
     leaving = numbers_by_state(steps)
     cut = 1 + len(guards)
-    met = met_spots(plant, [*guards, *others])
+    met = met_spots(plant, [*guards, *others], MOST_SPOTS)
     for spot in met:
         for number in leaving.get(spot[0], []):
             word = steps[number][1]
@@ -122,7 +127,7 @@ def stuck(plant, guards):
     check_guards(guards)
     steps = plant.steps
     leaving = numbers_by_state(steps)
-    met = met_spots(plant, guards)
+    met = met_spots(plant, guards, MOST_SPOTS)
     for spot in met:
         numbers = leaving.get(spot[0], [])
         held = [is_held(guards, spot[1:], steps[number][1]) for number in numbers]

@@ -51,6 +51,14 @@ def without(numbers, gone):
     return [number for number in numbers if number not in gone]
 
 
+def numbers_by_state(steps):
+    """The numbers of the steps in an ascending list for each state where some begin."""
+    leaving = {}
+    for number, step in enumerate(steps):
+        leaving.setdefault(step[0], []).append(number)
+    return leaving
+
+
 def targets_by_state(steps):
     """The targets of the steps in a list for each state where some of the steps begin."""
     targets = {}

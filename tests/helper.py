@@ -1,5 +1,6 @@
 """What several tests need: objects of all kinds, and a check of an error and its attribute."""
 
+from leastguards.bench import Bench
 from leastguards.guards import Guard
 from leastguards.plants import Plant
 from leastguards.views import View
@@ -88,6 +89,7 @@ def plain_things():
         frozenset({"go"}), range(3), slice(1), Ellipsis, NotImplemented, object(), int, len,
         lambda row: row, iter(["go"]), iter({"go": "g"}), (word for word in ["go"]), zip(["go"]),
         ValueError("go"), memoryview(b"go"), sample_plant(), sample_view(), View(),
+        Bench(sample_plant()),
     ]
 
 
@@ -168,3 +170,55 @@ def assert_too_many(case, limit, call):
     case.assertEqual(type(error).__name__, "TooMany")
     case.assertIs(type(error.limit), int)
     case.assertEqual(error.limit, limit)
+
+
+def no_views():
+    """Objects that are not views."""
+    return [thing for thing in all_things() if not isinstance(thing, View)]
+
+
+def sight_cycles(*sizes):
+    """Steps that lead from 0 into cycles of so many states, all with the word go."""
+    steps, base = [], 1
+    for size in sizes:
+        steps.append((0, "go", base))
+        steps += [(base + at, "go", base + (at + 1) % size) for at in range(size)]
+        base += size
+    return steps
+
+
+def lane_steps(many):
+    """Steps with the word hop from 0 to 50 and on to the states behind it."""
+    states = [0] + [50 + at for at in range(many)]
+    return [(one, "hop", other) for one, other in zip(states, states[1:])]
+
+
+def wide_plant(lane, barred=()):
+    """A plant that has 1981 + lane standings with a view that sees go and can hold nothing.
+
+    After go was seen once the plant is in one of three cycles of 5, 11 and 12 states, and the ends
+    have a state of each: there are 3 * 660 standings. A further one is that of the start, and one
+    that of each state of the lane, of which no step is wanted. Step 0 leads to the first cycle, and
+    step 31 is the first one of the lane.
+    """
+    steps = sight_cycles(5, 11, 12)
+    return Plant(0, steps + lane_steps(lane), list(range(len(steps))), barred)
+
+
+def far_plant():
+    """A plant and two views with a shortest forced run of 1681 steps to its only barred step.
+
+    The words in, mid and out lead into cycles of 7, 15 and 16 states and round them. The first view
+    cannot tell in from mid, the second one cannot tell in from out. Only at the last states of the
+    cycles a step up leaves; it is barred in the first cycle and wanted in the others.
+    """
+    steps, base = [], 1
+    for word, size in (("in", 7), ("mid", 15), ("out", 16)):
+        steps.append((0, word, base))
+        steps += [(base + at, word, base + (at + 1) % size) for at in range(size)]
+        base += size
+    steps += [(7, "up", 90), (22, "up", 90), (38, "up", 90)]
+    plant = Plant(0, steps, [number for number in range(44) if number != 41], [41])
+    views = [View({"in": "a", "mid": "a", "out": "b"}, ["up"]),
+             View({"in": "a", "mid": "b", "out": "a"}, ["up"])]
+    return plant, views
