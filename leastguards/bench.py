@@ -31,38 +31,36 @@ class Trial:
 
     def __init__(self, bench):
         self.bench = bench
-        self.view_before = None
-        self.changes_before = None
+        self.shelf = bench.shelf
+        self.views_before = []
 
     def __enter__(self):
-        self.view_before = self.bench.own_view
-        self.changes_before = list(self.bench.earlier_views)
+        self.views_before = list(self.shelf[0])
         return self.bench
 
     def __exit__(self, kind, value, trace):
-        self.bench.own_view = self.view_before
-        self.bench.earlier_views = self.changes_before
+        self.shelf.clear()
+        self.shelf.append(self.views_before)
 
 
 class Bench:
-    """A plant and a view, which changes one by one; the changes can be taken back.
-
-    The view itself is never changed: each change puts another one in its place.
-    """
+    """A plant and a view, which changes one by one; the changes can be taken back."""
 
     def __init__(self, plant):
         self.own_plant = plant
-        self.own_view = View()
-        self.earlier_views = []
+        # The shelf has one item: the list of the views after each change, none of which is changed
+        # itself. A trial has the same shelf, and at its end puts the earlier list there.
+        self.shelf = [[]]
 
     def __len__(self):
-        return len(self.earlier_views)
+        return len(self.shelf[0])
 
     def __getitem__(self, at):
-        return self.own_view[at]
+        view = self.present_view()
+        return view[at]
 
     def __setitem__(self, at, worth):
-        view = self.own_view.copy()
+        view = self.chosen
         view[at] = worth
         self.change_to(view)
 
@@ -73,20 +71,26 @@ class Bench:
     @property
     def chosen(self):
         """A copy of the view of the bench."""
-        return self.own_view.copy()
+        return self.present_view().copy()
 
     @chosen.setter
     def chosen(self, value):
         self.follow(value)
 
+    def present_view(self):
+        """The view of the bench itself."""
+        views = self.shelf[0]
+        if not views:
+            return View()
+        return views[-1]
+
     def change_to(self, view):
         """Make this view the view of the bench, as one change."""
-        self.earlier_views.append(self.own_view)
-        self.own_view = view
+        self.shelf[0].append(view)
 
     def hold(self, word):
         """Let the view hold the word, too."""
-        view = self.own_view.copy()
+        view = self.chosen
         view.hold_just(view.holds + [word])
         self.change_to(view)
 
@@ -94,7 +98,7 @@ class Bench:
         """Take the word from those that the view can hold."""
         if not is_name(word):
             raise BadWord(word)
-        view = self.own_view.copy()
+        view = self.chosen
         view.hold_just([held for held in view.holds if held != word])
         self.change_to(view)
 
@@ -106,13 +110,14 @@ class Bench:
 
     def keeps(self):
         """True if no forced run of the plant with this view contains a barred step."""
-        return keepable(self.own_plant, [self.own_view])
+        return keepable(self.own_plant, [self.present_view()])
 
     def undo(self):
         """Take back the last change."""
-        if not self.earlier_views:
+        views = self.shelf[0]
+        if not views:
             raise NothingDone()
-        self.own_view = self.earlier_views.pop()
+        views.pop()
 
     def trial(self):
         """A context for one with statement, which takes back all that its block changes."""

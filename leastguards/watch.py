@@ -113,7 +113,8 @@ class Forcing:
         queue = [first]
         done = 0
         while done < len(queue):
-            for number, standing in self.forced_from(queue[done]):
+            steps = self.forced_from(queue[done])
+            for number, standing in steps:
                 if standing not in met:
                     met[standing] = (queue[done], number)
                     queue.append(standing)

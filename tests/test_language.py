@@ -22,6 +22,8 @@ DOUBLE_UNDERSCORE = set("""init eq repr str len enter exit call iter lt le gt ge
     setitem""".split())
 for reflected in "add sub mul floordiv mod and or xor lshift rshift".split():
     DOUBLE_UNDERSCORE |= {"r" + reflected, "i" + reflected}
+BUILTIN_METHODS = set("""append clear copy get items pop setdefault values add discard
+    bit_length""".split())
 STATEMENTS = (ast.Assign, ast.AugAssign, ast.AnnAssign, ast.If, ast.While, ast.For, ast.Return,
               ast.Break, ast.Continue, ast.Pass, ast.Raise, ast.Assert, ast.Delete, ast.Nonlocal,
               ast.Match, ast.With, ast.Try, ast.Expr, ast.FunctionDef, ast.ClassDef,
@@ -53,6 +55,35 @@ def bound_names(text):
     names += [node.name for node in nodes(text, ast.FunctionDef, ast.ClassDef)]
     names += [node.asname or node.name for node in nodes(text, ast.alias)]
     return names + [node.attr for node in nodes(text, ast.Attribute)]
+
+
+def is_set(node):
+    return isinstance(node, (ast.Set, ast.SetComp)) or (
+        isinstance(node, ast.Call) and ast.unparse(node.func) == "set")
+
+
+def stored_sets(function):
+    """The names of the local variables to which the function assigns sets."""
+    return {ast.unparse(node.targets[0]) for node in ast.walk(function)
+            if isinstance(node, ast.Assign) and is_set(node.value)}
+
+
+def assignments_of(function, name):
+    return len([node for node in ast.walk(function) if isinstance(node, ast.Name)
+                and node.id == name and isinstance(node.ctx, ast.Store)])
+
+
+def uses_of(function, name):
+    """What the function does with the name, as code in which the name is NAME."""
+    uses = []
+    for node in ast.walk(function):
+        for child in ast.iter_child_nodes(node):
+            if isinstance(child, ast.Name) and child.id == name:
+                if isinstance(node, ast.Attribute):
+                    node = [call for call in ast.walk(function) if isinstance(call, ast.Call)
+                            and call.func is node][0]
+                uses.append(re.sub(rf"\b{name}\b", "NAME", ast.unparse(node)))
+    return uses
 
 
 class LanguageTest(unittest.TestCase):
@@ -160,6 +191,41 @@ class LanguageTest(unittest.TestCase):
                 for sign, right in zip(node.ops, node.comparators):
                     if isinstance(sign, (ast.Is, ast.IsNot)):
                         self.assertIn(ast.unparse(right), ("None", "True", "False"))
+
+    def test_stored_sets_are_only_asked(self):
+        for text in TEXTS.values():
+            for function in nodes(text, ast.FunctionDef):
+                for name in stored_sets(function):
+                    for use in uses_of(function, name):
+                        self.assertRegex(use, r"^([^=]* (not )?in NAME|sorted\(NAME\)|len\(NAME\)"
+                                              r"|NAME\.(add|discard)\(.*\)|NAME = .*)$")
+                    self.assertEqual(assignments_of(function, name), 1)
+
+    def test_exit_methods_only_put_back(self):
+        for text in TEXTS.values():
+            for function in nodes(text, ast.FunctionDef):
+                if function.name == "__exit__":
+                    for row in function.body:
+                        self.assertRegex(ast.unparse(row), r"^self\.[a-z_]+( = self\.[a-z_]+"
+                                                           r"|\.append\(self\.[a-z_]+\)|\.clear\(\))$")
+
+    def test_only_some_methods_of_builtin_values(self):
+        own = {node.name for text in TEXTS.values() for node in nodes(text, ast.FunctionDef)}
+        for text in TEXTS.values():
+            for node in nodes(text, ast.Call):
+                if isinstance(node.func, ast.Attribute):
+                    self.assertIn(node.func.attr, own | BUILTIN_METHODS | {"__init__"})
+
+    def test_stars_stand_over_names(self):
+        for text in TEXTS.values():
+            for node in nodes(text, ast.Starred):
+                self.assertIsInstance(node.value, ast.Name)
+
+    def test_a_class_with_items_refuses_to_be_iterated_over(self):
+        for text in TEXTS.values():
+            for told in nodes(text, ast.ClassDef):
+                methods = {node.name for node in told.body if isinstance(node, ast.FunctionDef)}
+                self.assertTrue("__getitem__" not in methods or "__iter__" in methods, told.name)
 
     def test_python_gives_no_warning(self):
         for name, text in TEXTS.items():
